@@ -1,0 +1,1 @@
+"""Coveredcells: no lock with fewer cells than threads."""
