@@ -87,7 +87,7 @@ def cases_of(words):
 def row_of(line):
     """Return the row that a line tells, whatever rows there are; None if it is no row by its form."""
     words = line.split(" ")
-    if len(words) < 2 or not is_written(words[-1]):
+    if not is_written(words[-1]):
         return None
     number = int(words[-1])
     if words[0] in ("rest", "inside"):

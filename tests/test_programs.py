@@ -16,6 +16,13 @@ NO_NAMES = ["", "A", "aB", "a1", "a b", "a.me", "_", "abcdefghi", "\u00e4", "\u0
             None, 1, True, b"a", ["a"], ("a",), {"a": 1}, object()]
 
 
+class Everything:
+    """What says that it is equal to everything."""
+
+    def __eq__(self, other):
+        return True
+
+
 def chain(many):
     """Return so many rows: rest, writes, inside."""
     return [("rest", 1)] + [("write", "a", 0, k + 1) for k in range(1, many - 1)] + [("inside", 0)]
@@ -117,7 +124,8 @@ class BadProgramTest(Checks):
         for row in (None, True, 1, "rest", "inside 0", b"", [], (), {}, ["inside"], ("inside", 0, 0), ("rest",),
                     ("Inside", 0), ("inside ", 0), ("", 0), (None, 0), (0, 0), (["inside"], 0), (b"inside", 0),
                     ("write", 0), ("read", 0), ("write", "a", 0), ("read", "a", {}), ("write", "a", 0, 0, 0),
-                    ("read", "a", {}, 0, 0), ("write", "a", 0, 0)[:2], ("go", "a", 0, 0), object()):
+                    ("read", "a", {}, 0, 0), ("write", "a", 0, 0)[:2], ("go", "a", 0, 0), ("go", "a", {}, 0), ("inside", "a", {}, 0),
+                    ("", "a", {}, 0), (Everything(), 0), (Everything(), "a", 0, 0), object()):
             self.bad([("rest", 1), row], 1)
             self.bad([row, ("rest", 1)], 0)
 
@@ -266,10 +274,6 @@ class MethodsTest(unittest.TestCase):
             self.assertTrue(Program(read) != Program(rows))
 
     def test_not_equal_to_other_kinds(self):
-        class Everything:
-            def __eq__(self, other):
-                return True
-
         program = Program(SMALL)
         for value in (SMALL, tuple(SMALL), program.text(), None, 2, True, object(), Everything()):
             self.assertIs(program == value, False)
