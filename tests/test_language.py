@@ -33,6 +33,12 @@ INTERFACE = {
     "fields": {"Field": "__init__ __eq__ __len__ cells programs start step inside resting writing merged text "
                         "parse".split()},
 }
+FUNCTIONS = {
+    "runs": {"after": ["field", "run", "state"], "is_clash": ["field", "run"],
+             "is_standstill": ["field", "run", "ring"], "is_cover": ["field", "count", "run", "twin"]},
+    "covers": {"cover": ["field", "count"], "foil": ["field"]},
+    "search": {"reached": ["field"], "clash": ["field"], "standstill": ["field"], "kept_out": ["field", "thread"]},
+}
 
 
 def trees():
@@ -162,3 +168,11 @@ class InterfaceTest(unittest.TestCase):
             for word, methods in classes.items():
                 own = {node.name for node in found[word].body if isinstance(node, ast.FunctionDef)}
                 self.assertLessEqual(set(methods), own, word)
+
+    def test_functions_have_their_parameters(self):
+        for name, functions in FUNCTIONS.items():
+            tree = ast.parse((PACKAGE / f"{name}.py").read_text("ascii"))
+            found = {node.name: [part.arg for part in node.args.args] for node in tree.body
+                     if isinstance(node, ast.FunctionDef)}
+            for word, parameters in functions.items():
+                self.assertEqual(found[word], parameters, word)
