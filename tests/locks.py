@@ -148,16 +148,16 @@ def drawn(seed, threads, many_cells, most=12):
 
 
 def changed(field, seed):
-    """Return a known field with a row that reads or writes changed, where Program still takes it."""
+    """Return a known field, which has cells, with a row that reads or writes changed to one that Program takes."""
     draw = random.Random(seed)
     while True:
         tables = [program.rows() for program in field.programs]
         thread = draw.randrange(len(tables))
         places = [at for at, row in enumerate(tables[thread]) if row[0] in ("read", "write")]
-        at = draw.choice(places or [0])
-        tables[thread][at] = drawn_row(draw, list(field.cells) or ["a"], list(range(len(tables[thread]))))
+        at = draw.choice(places)
+        tables[thread][at] = drawn_row(draw, list(field.cells), list(range(len(tables[thread]))))
         try:
-            return field_of(field.cells or ["a"], tables)
+            return field_of(field.cells, tables)
         except ValueError:
             pass
 

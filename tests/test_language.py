@@ -135,6 +135,10 @@ class StatementsTest(unittest.TestCase):
                 self.assertNotIn("%", node.value, name)
                 self.assertFalse(node.value.endswith(("._", ".__")), name)
 
+    def test_lambdas_have_no_defaults(self):
+        for name, node in nodes(ast.Lambda):
+            self.assertEqual(node.args.defaults + node.args.kw_defaults, [], (name, node.lineno))
+
     def test_lists_instead_of_generator_expressions(self):
         for name, node in nodes(ast.Call):
             if isinstance(node.func, ast.Name) and node.func.id in OVER_LISTS:
