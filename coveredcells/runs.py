@@ -1,7 +1,13 @@
 """Runs, and what they lead to: clashes, standstills and covers."""
 
-from coveredcells.errors import BadCount, BadRun
+from coveredcells.errors import BadCount, BadRun, BadThread
 from coveredcells.forms import is_list, is_number
+
+
+def check_thread(field, thread):
+    """Raise BadThread with any object that is not a thread of a field."""
+    if not is_number(thread, len(field)):
+        raise BadThread(thread)
 
 
 def wrong_index(field, run):

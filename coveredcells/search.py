@@ -1,7 +1,6 @@
 """Searches through all states of a field that runs lead to."""
 
-from coveredcells.errors import BadThread
-from coveredcells.forms import is_number
+from coveredcells.runs import check_thread
 
 
 def graph_of(field):
@@ -70,7 +69,10 @@ def finished(graph):
 
 
 def parts_of(graph):
-    """Return the lists of states that lead to one another; each state is in one of them."""
+    """Return the lists of states that lead to one another; each state is in one of them.
+
+    Each list stands ahead of those that its states lead to.
+    """
     sources = {state: [] for state in graph}
     for state, steps in graph.items():
         for _, follower in steps:
@@ -147,8 +149,7 @@ def standstill(field):
 
 def kept_out(field, thread):
     """Return a run and a ring by which a thread is kept out, None if there is none."""
-    if not is_number(thread, len(field)):
-        raise BadThread(thread)
+    check_thread(field, thread)
     graph = graph_of(field)
     states = [state for state in graph if thread not in [*field.inside(state), *field.resting(state)]]
     return round_and_round(field, graph, states)

@@ -289,3 +289,21 @@ class Walker:
                         met.add(place)
                         queue.append(place)
         return False
+
+
+def some_fields(threads, most):
+    """Return known, changed, merged and drawn fields of up to so many threads, with at most so many states.
+
+    Each stands in a tuple of what it is called, the field, its walker, and the fewest steps to each of its states.
+    """
+    fields = {**known(threads), **merged(3)}
+    for word, field in known(3).items():
+        if len(field) > 1 and field.cells:
+            for seed in range(4):
+                fields[f"{word} changed, {seed}"] = changed(field, seed)
+    draw = random.Random(3)
+    for seed in range(60):
+        fields[f"drawn, {seed}"] = drawn(seed, draw.randrange(1, threads + 1), draw.randrange(4), 6)
+    walkers = {word: Walker(field) for word, field in fields.items()}
+    states = {word: walker.distances() for word, walker in walkers.items()}
+    return [(word, fields[word], walkers[word], states[word]) for word in fields if len(states[word]) <= most]

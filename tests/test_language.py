@@ -2,7 +2,6 @@
 
 import ast
 import builtins
-import importlib
 import pathlib
 import re
 import unittest
@@ -32,12 +31,16 @@ INTERFACE = {
     "programs": {"Program": "__init__ __eq__ __len__ rows used renamed text parse".split()},
     "fields": {"Field": "__init__ __eq__ __len__ cells programs start step inside resting writing merged text "
                         "parse".split()},
+    "watching": {"Watch": "__init__ field see seen states surely perhaps undo again".split()},
 }
 FUNCTIONS = {
     "runs": {"after": ["field", "run", "state"], "is_clash": ["field", "run"],
              "is_standstill": ["field", "run", "ring"], "is_cover": ["field", "count", "run", "twin"]},
     "covers": {"cover": ["field", "count"], "foil": ["field"]},
     "search": {"reached": ["field"], "clash": ["field"], "standstill": ["field"], "kept_out": ["field", "thread"]},
+    "papers": {"paper": ["field"], "is_paper": ["field", "table"]},
+    "waits": {"alone": ["field", "thread"], "passed_over": ["field", "thread", "steps"]},
+    "watching": {"can_be": ["field", "seen"]},
 }
 
 
@@ -72,10 +75,13 @@ class NamesTest(unittest.TestCase):
     def test_imports_name_the_file_that_defines_the_name(self):
         for name, node in nodes(ast.ImportFrom):
             self.assertRegex(node.module, r"^coveredcells\.[a-z_]+$", name)
-            module = importlib.import_module(node.module)
+            file = PACKAGE / (node.module.split(".")[1] + ".py")
+            bound = [part.targets[0].id if isinstance(part, ast.Assign) else part.name
+                     for part in ast.parse(file.read_text("ascii")).body
+                     if isinstance(part, (ast.Assign, ast.FunctionDef, ast.ClassDef))]
             for part in node.names:
                 self.assertIsNone(part.asname)
-                self.assertEqual(getattr(module, part.name).__module__, node.module)
+                self.assertIn(part.name, bound)
 
     def test_no_file_imports_itself_round_about(self):
         ahead = {name: [node.module.split(".")[1] + ".py" for node in ast.walk(tree) if isinstance(node, ast.ImportFrom)]
@@ -87,7 +93,8 @@ class NamesTest(unittest.TestCase):
                 del ahead[name]
 
     def test_builtins(self):
-        known = set(dir(builtins))
+        # Examples that are run put a `_` among the builtins.
+        known = set(dir(builtins)) - {"_"}
         for name, node in nodes(ast.Name):
             if isinstance(node.ctx, ast.Store):
                 self.assertNotIn(node.id, known, name)

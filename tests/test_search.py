@@ -1,32 +1,15 @@
 """Promises 8, 13 and 14: searches through all states."""
 
-import random
 import unittest
 
 from coveredcells.errors import BadThread
 from coveredcells.runs import is_clash, is_standstill
 from coveredcells.search import clash, kept_out, reached, standstill
 from tests.locks import (
-    Walker, announcing, changed, dekker, drawn, endless, field_of, known, looking, merged, onebit, peterson, straight,
-    turning)
+    Walker, announcing, dekker, drawn, endless, field_of, looking, onebit, peterson, some_fields, straight, turning)
 
 
-def some_fields():
-    """Return known, changed, merged and drawn fields with at most 600 states, by what they are called."""
-    fields = {**known(4), **merged(3)}
-    for word, field in known(3).items():
-        if len(field) > 1 and field.cells:
-            for seed in range(4):
-                fields[f"{word} changed, {seed}"] = changed(field, seed)
-    draw = random.Random(3)
-    for seed in range(60):
-        fields[f"drawn, {seed}"] = drawn(seed, draw.randrange(1, 5), draw.randrange(4), 6)
-    walkers = {word: Walker(field) for word, field in fields.items()}
-    states = {word: walker.distances() for word, walker in walkers.items()}
-    return [(word, fields[word], walkers[word], states[word]) for word in fields if len(states[word]) <= 600]
-
-
-SOME = some_fields()
+SOME = some_fields(4, 600)
 
 
 class SearchTest(unittest.TestCase):
