@@ -1,5 +1,8 @@
 """The forms of names, worths and rows, and of the lines that tell them."""
 
+# A cell of a thread is called by its letter, or by a name with the letter behind it.
+LETTERS = "abcde"
+
 
 def is_list(value):
     """Tell whether any object is a list; a tuple may stand for one."""

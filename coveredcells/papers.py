@@ -56,15 +56,15 @@ def may_follow(pair, thread, behind):
 
 def holds_at(field, table, state):
     """Tell whether what makes a table a paper holds at one of its states."""
-    followers = [field.step(state, thread) for thread in range(len(field))]
+    followers = [field.step(state, mover) for mover in range(len(field))]
     inside = field.inside(state)
     if len(inside) > 1 or not all([follower in table for follower in followers]):
         return False
     if inside:
         return True
     resting = field.resting(state)
-    thread = table[state][1]
-    if len(resting) < len(field) and (thread is None or thread in resting):
+    named = table[state][1]
+    if len(resting) < len(field) and (named is None or named in resting):
         return False
     steps = [(mover, follower) for mover, follower in enumerate(followers) if not field.inside(follower)]
     return all([may_follow(table[state], mover, table[follower]) for mover, follower in steps])

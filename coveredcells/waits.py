@@ -50,7 +50,8 @@ def spread(graph, states, is_gone):
     met = {state: True for state in states}
     ahead = list(met)
     while ahead:
-        for thread, follower in graph[ahead.pop()]:
+        state = ahead.pop()
+        for thread, follower in graph[state]:
             if follower not in met and is_gone(thread, follower):
                 met[follower] = True
                 ahead.append(follower)
@@ -76,7 +77,7 @@ def most_entries(field, graph):
         for state in part:
             for thread, follower in graph[state]:
                 entry = 1 if thread in field.inside(follower) else 0
-                # All that the part leads to has its number already: the rest leads back to it, again and again.
+                # What the part leads to has its number already; what has none leads back to this state.
                 if follower in most:
                     entries = max(entries, entry + most[follower])
                 elif entry > 0:

@@ -32,6 +32,8 @@ INTERFACE = {
     "fields": {"Field": "__init__ __eq__ __len__ cells programs start step inside resting writing merged text "
                         "parse".split()},
     "watching": {"Watch": "__init__ field see seen states surely perhaps undo again".split()},
+    "scripts": {"Script": "__init__ __eq__ text program field_of".split()},
+    "stages": {"Stage": "__init__ field state run inside step do undo again".split()},
 }
 FUNCTIONS = {
     "runs": {"after": ["field", "run", "state"], "is_clash": ["field", "run"],
@@ -41,6 +43,9 @@ FUNCTIONS = {
     "papers": {"paper": ["field"], "is_paper": ["field", "table"]},
     "waits": {"alone": ["field", "thread"], "passed_over": ["field", "thread", "steps"]},
     "watching": {"can_be": ["field", "seen"]},
+    "likes": {"least": ["program"], "least_field": ["field"], "parting": ["one", "other"], "are_alike": ["one", "other"]},
+    "known": {"onebit": ["threads"], "peterson": [], "dekker": [], "turning": ["threads"], "looking": ["threads"],
+              "announcing": ["threads"]},
 }
 
 
